@@ -1,0 +1,167 @@
+package rules
+
+import (
+	"go/ast"
+	"slices"
+	"testing"
+)
+
+// The language features that the document's section 'Ways' names for the layers that are built.
+func TestWays(t *testing.T) {
+	for _, c := range []struct {
+		layer string
+		ways  []string
+	}{
+		{"span", []string{"array", "range over two values", "method value", "variadic"}},
+		{"sight", []string{"map from structs", "structs compared", "closure", "range over a value", "function field"}},
+	} {
+		found := waysOf(t, c.layer)
+		for _, way := range c.ways {
+			if !slices.Contains(found, way) {
+				t.Error(c.layer, "has no", way)
+			}
+		}
+	}
+}
+
+// names are what a package declares, as far as ways are told by it.
+type names struct {
+	structs, methods, maps []string
+	iterators              map[string]string // with the type of iterator that they return
+}
+
+func waysOf(t *testing.T, layer string) []string {
+	t.Helper()
+	declared := names{iterators: map[string]string{}}
+	var files []*ast.File
+	for _, s := range sources(t) {
+		if s.folder == layer {
+			files = append(files, s.file)
+		}
+	}
+	// Twice: a map's key may be declared behind the map.
+	for range 2 {
+		for _, f := range files {
+			ast.Inspect(f, func(n ast.Node) bool { declared.note(n); return true })
+		}
+	}
+	var found []string
+	for _, f := range files {
+		called := map[ast.Node]bool{}
+		ast.Inspect(f, func(n ast.Node) bool {
+			if c, ok := n.(*ast.CallExpr); ok {
+				called[c.Fun] = true
+			}
+			if n != nil {
+				found = append(found, declared.way(n, called[n]))
+			}
+			return true
+		})
+	}
+	return found
+}
+
+func (d *names) note(n ast.Node) {
+	switch x := n.(type) {
+	case *ast.TypeSpec:
+		if _, ok := x.Type.(*ast.StructType); ok {
+			d.structs = append(d.structs, x.Name.Name)
+		}
+	case *ast.Field:
+		if d.fromStructs(x.Type) && len(x.Names) > 0 {
+			d.maps = append(d.maps, x.Names[0].Name)
+		}
+	case *ast.FuncDecl:
+		if x.Recv != nil {
+			d.methods = append(d.methods, x.Name.Name)
+		}
+		if x.Type.Results == nil {
+			return
+		}
+		for _, r := range x.Type.Results.List {
+			if kind := iterator(r.Type); kind != "" {
+				d.iterators[x.Name.Name] = kind
+			}
+		}
+	}
+}
+
+func (d *names) fromStructs(t ast.Expr) bool {
+	m, ok := t.(*ast.MapType)
+	if !ok {
+		return false
+	}
+	key, ok := m.Key.(*ast.Ident)
+	return ok && slices.Contains(d.structs, key.Name)
+}
+
+// iterator returns Seq or Seq2 where a type is such, of package iter.
+func iterator(t ast.Expr) string {
+	switch x := t.(type) {
+	case *ast.IndexExpr:
+		return iterator(x.X)
+	case *ast.IndexListExpr:
+		return iterator(x.X)
+	case *ast.SelectorExpr:
+		if of, ok := x.X.(*ast.Ident); ok && of.Name == "iter" {
+			return x.Sel.Name
+		}
+	}
+	return ""
+}
+
+// way returns the way that a node is, or the empty string.
+func (d *names) way(n ast.Node, called bool) string {
+	switch x := n.(type) {
+	case *ast.ArrayType:
+		if x.Len != nil {
+			return "array"
+		}
+	case *ast.FuncLit:
+		return "closure"
+	case *ast.MapType:
+		if d.fromStructs(x) {
+			return "map from structs"
+		}
+	case *ast.IndexExpr: // a map holds its keys against each other
+		if s, ok := x.X.(*ast.SelectorExpr); ok && slices.Contains(d.maps, s.Sel.Name) {
+			return "structs compared"
+		}
+	case *ast.Ellipsis:
+		return "variadic"
+	case *ast.SelectorExpr:
+		if !called && slices.Contains(d.methods, x.Sel.Name) {
+			return "method value"
+		}
+	case *ast.StructType:
+		for _, f := range x.Fields.List {
+			if _, ok := f.Type.(*ast.FuncType); ok {
+				return "function field"
+			}
+		}
+	case *ast.RangeStmt:
+		return d.ranged(x.X)
+	}
+	return ""
+}
+
+func (d *names) ranged(over ast.Expr) string {
+	c, ok := over.(*ast.CallExpr)
+	if !ok {
+		return ""
+	}
+	var name string
+	switch f := c.Fun.(type) {
+	case *ast.Ident:
+		name = f.Name
+	case *ast.SelectorExpr:
+		name = f.Sel.Name
+	}
+	switch d.iterators[name] {
+	case "Seq":
+		return "range over a value"
+	case "Seq2":
+		return "range over two values"
+	}
+	return ""
+}
