@@ -14,6 +14,7 @@ func TestWays(t *testing.T) {
 	}{
 		{"span", []string{"array", "range over two values", "method value", "variadic"}},
 		{"sight", []string{"map from structs", "structs compared", "closure", "range over a value", "function field"}},
+		{"transit", []string{"range over a value", "range over two values", "closure", "generic function", "method expression"}},
 	} {
 		found := waysOf(t, c.layer)
 		for _, way := range c.ways {
@@ -130,8 +131,10 @@ func (d *names) way(n ast.Node, called bool) string {
 	case *ast.Ellipsis:
 		return "variadic"
 	case *ast.SelectorExpr:
-		if !called && slices.Contains(d.methods, x.Sel.Name) {
-			return "method value"
+		return d.selected(x, called)
+	case *ast.FuncDecl:
+		if x.Type.TypeParams != nil {
+			return "generic function"
 		}
 	case *ast.StructType:
 		for _, f := range x.Fields.List {
@@ -141,6 +144,19 @@ func (d *names) way(n ast.Node, called bool) string {
 		}
 	case *ast.RangeStmt:
 		return d.ranged(x.X)
+	}
+	return ""
+}
+
+func (d *names) selected(x *ast.SelectorExpr, called bool) string {
+	if !slices.Contains(d.methods, x.Sel.Name) {
+		return ""
+	}
+	if of, ok := x.X.(*ast.Ident); ok && slices.Contains(d.structs, of.Name) {
+		return "method expression"
+	}
+	if !called {
+		return "method value"
 	}
 	return ""
 }
