@@ -15,6 +15,7 @@ func TestWays(t *testing.T) {
 		{"span", []string{"array", "range over two values", "method value", "variadic"}},
 		{"sight", []string{"map from structs", "structs compared", "closure", "range over a value", "function field"}},
 		{"transit", []string{"range over a value", "range over two values", "closure", "generic function", "method expression"}},
+		{"ball", []string{"iota", "function field", "array", "array by numbers", "range over two values", "closure"}},
 	} {
 		found := waysOf(t, c.layer)
 		for _, way := range c.ways {
@@ -27,8 +28,8 @@ func TestWays(t *testing.T) {
 
 // names are what a package declares, as far as ways are told by it.
 type names struct {
-	structs, methods, maps []string
-	iterators              map[string]string // with the type of iterator that they return
+	structs, arrays, methods, maps []string
+	iterators                      map[string]string // with the type of iterator that they return
 }
 
 func waysOf(t *testing.T, layer string) []string {
@@ -68,6 +69,9 @@ func (d *names) note(n ast.Node) {
 		if _, ok := x.Type.(*ast.StructType); ok {
 			d.structs = append(d.structs, x.Name.Name)
 		}
+		if a, ok := x.Type.(*ast.ArrayType); ok && a.Len != nil {
+			d.arrays = append(d.arrays, x.Name.Name)
+		}
 	case *ast.Field:
 		if d.fromStructs(x.Type) && len(x.Names) > 0 {
 			d.maps = append(d.maps, x.Names[0].Name)
@@ -96,6 +100,15 @@ func (d *names) fromStructs(t ast.Expr) bool {
 	return ok && slices.Contains(d.structs, key.Name)
 }
 
+func hasKeys(x *ast.CompositeLit) bool {
+	for _, item := range x.Elts {
+		if _, ok := item.(*ast.KeyValueExpr); !ok {
+			return false
+		}
+	}
+	return len(x.Elts) > 0
+}
+
 // iterator returns Seq or Seq2 where a type is such, of package iter.
 func iterator(t ast.Expr) string {
 	switch x := t.(type) {
@@ -114,9 +127,17 @@ func iterator(t ast.Expr) string {
 // way returns the way that a node is, or the empty string.
 func (d *names) way(n ast.Node, called bool) string {
 	switch x := n.(type) {
+	case *ast.Ident:
+		if x.Name == "iota" {
+			return "iota"
+		}
 	case *ast.ArrayType:
 		if x.Len != nil {
 			return "array"
+		}
+	case *ast.CompositeLit: // its items stand behind their numbers
+		if t, ok := x.Type.(*ast.Ident); ok && slices.Contains(d.arrays, t.Name) && hasKeys(x) {
+			return "array by numbers"
 		}
 	case *ast.FuncLit:
 		return "closure"
