@@ -2,6 +2,7 @@ package rules
 
 import (
 	"go/ast"
+	"go/token"
 	"slices"
 	"testing"
 )
@@ -16,6 +17,7 @@ func TestWays(t *testing.T) {
 		{"sight", []string{"map from structs", "structs compared", "closure", "range over a value", "function field"}},
 		{"transit", []string{"range over a value", "range over two values", "closure", "generic function", "method expression"}},
 		{"ball", []string{"iota", "function field", "array", "array by numbers", "range over two values", "closure"}},
+		{"gun", []string{"range over a value", "label", "closure", "structs compared"}},
 	} {
 		found := waysOf(t, c.layer)
 		for _, way := range c.ways {
@@ -29,6 +31,7 @@ func TestWays(t *testing.T) {
 // names are what a package declares, as far as ways are told by it.
 type names struct {
 	structs, arrays, methods, maps []string
+	makers                         []string          // functions that return a struct alone
 	iterators                      map[string]string // with the type of iterator that they return
 }
 
@@ -39,6 +42,9 @@ func waysOf(t *testing.T, layer string) []string {
 	for _, s := range sources(t) {
 		if s.folder == layer {
 			files = append(files, s.file)
+		}
+		if s.folder == "api" {
+			ast.Inspect(s.file, func(n ast.Node) bool { declared.note(n); return true })
 		}
 	}
 	// Twice: a map's key may be declared behind the map.
@@ -83,6 +89,9 @@ func (d *names) note(n ast.Node) {
 		if x.Type.Results == nil {
 			return
 		}
+		if l := x.Type.Results.List; len(l) == 1 && d.isStruct(l[0].Type) {
+			d.makers = append(d.makers, x.Name.Name)
+		}
 		for _, r := range x.Type.Results.List {
 			if kind := iterator(r.Type); kind != "" {
 				d.iterators[x.Name.Name] = kind
@@ -96,8 +105,29 @@ func (d *names) fromStructs(t ast.Expr) bool {
 	if !ok {
 		return false
 	}
-	key, ok := m.Key.(*ast.Ident)
-	return ok && slices.Contains(d.structs, key.Name)
+	return d.isStruct(m.Key)
+}
+
+// isStruct reports whether a type is a struct of the package's own or of package api.
+func (d *names) isStruct(t ast.Expr) bool {
+	switch x := t.(type) {
+	case *ast.Ident:
+		return slices.Contains(d.structs, x.Name)
+	case *ast.SelectorExpr:
+		of, ok := x.X.(*ast.Ident)
+		return ok && of.Name == "api" && slices.Contains(d.structs, x.Sel.Name)
+	}
+	return false
+}
+
+// makesStruct reports whether a value is what a function returns that returns a struct alone.
+func (d *names) makesStruct(value ast.Expr) bool {
+	c, ok := value.(*ast.CallExpr)
+	if !ok {
+		return false
+	}
+	f, ok := c.Fun.(*ast.Ident)
+	return ok && slices.Contains(d.makers, f.Name)
 }
 
 func hasKeys(x *ast.CompositeLit) bool {
@@ -141,6 +171,12 @@ func (d *names) way(n ast.Node, called bool) string {
 		}
 	case *ast.FuncLit:
 		return "closure"
+	case *ast.LabeledStmt:
+		return "label"
+	case *ast.BinaryExpr:
+		if (x.Op == token.EQL || x.Op == token.NEQ) && d.makesStruct(x.X) && d.makesStruct(x.Y) {
+			return "structs compared"
+		}
 	case *ast.MapType:
 		if d.fromStructs(x) {
 			return "map from structs"
