@@ -18,6 +18,7 @@ func TestWays(t *testing.T) {
 		{"transit", []string{"range over a value", "range over two values", "closure", "generic function", "method expression"}},
 		{"ball", []string{"iota", "function field", "array", "array by numbers", "range over two values", "closure"}},
 		{"gun", []string{"range over a value", "label", "closure", "structs compared"}},
+		{"rate", []string{"range over a value", "closure that calls itself", "generic function", "map from names"}},
 	} {
 		found := waysOf(t, c.layer)
 		for _, way := range c.ways {
@@ -139,6 +140,24 @@ func hasKeys(x *ast.CompositeLit) bool {
 	return len(x.Elts) > 0
 }
 
+// callsItself reports whether a closure is assigned to a variable, and calls that.
+func callsItself(x *ast.AssignStmt) bool {
+	to, named := x.Lhs[0].(*ast.Ident)
+	f, closed := x.Rhs[0].(*ast.FuncLit)
+	if !named || !closed {
+		return false
+	}
+	found := false
+	ast.Inspect(f, func(n ast.Node) bool {
+		if c, ok := n.(*ast.CallExpr); ok {
+			of, ok := c.Fun.(*ast.Ident)
+			found = found || ok && of.Name == to.Name
+		}
+		return true
+	})
+	return found
+}
+
 // iterator returns Seq or Seq2 where a type is such, of package iter.
 func iterator(t ast.Expr) string {
 	switch x := t.(type) {
@@ -180,6 +199,13 @@ func (d *names) way(n ast.Node, called bool) string {
 	case *ast.MapType:
 		if d.fromStructs(x) {
 			return "map from structs"
+		}
+		if key, ok := x.Key.(*ast.Ident); ok && key.Name == "string" {
+			return "map from names"
+		}
+	case *ast.AssignStmt:
+		if callsItself(x) {
+			return "closure that calls itself"
 		}
 	case *ast.IndexExpr: // a map holds its keys against each other
 		if s, ok := x.X.(*ast.SelectorExpr); ok && slices.Contains(d.maps, s.Sel.Name) {
