@@ -19,6 +19,7 @@ func TestWays(t *testing.T) {
 		{"ball", []string{"iota", "function field", "array", "array by numbers", "range over two values", "closure"}},
 		{"gun", []string{"range over a value", "label", "closure", "structs compared"}},
 		{"rate", []string{"range over a value", "closure that calls itself", "generic function", "map from names"}},
+		{"flag", []string{"iota behind a constant", "range over a value", "range over an integer", "map from numbers", "closure", "closure that calls itself"}},
 	} {
 		found := waysOf(t, c.layer)
 		for _, way := range c.ways {
@@ -32,6 +33,7 @@ func TestWays(t *testing.T) {
 // names are what a package declares, as far as ways are told by it.
 type names struct {
 	structs, arrays, methods, maps []string
+	constants                      []string          // of the package level, whole numbers
 	makers                         []string          // functions that return a struct alone
 	iterators                      map[string]string // with the type of iterator that they return
 }
@@ -83,6 +85,10 @@ func (d *names) note(n ast.Node) {
 		if d.fromStructs(x.Type) && len(x.Names) > 0 {
 			d.maps = append(d.maps, x.Names[0].Name)
 		}
+	case *ast.GenDecl:
+		if x.Tok == token.CONST {
+			d.noteConstants(x)
+		}
 	case *ast.FuncDecl:
 		if x.Recv != nil {
 			d.methods = append(d.methods, x.Name.Name)
@@ -99,6 +105,39 @@ func (d *names) note(n ast.Node) {
 			}
 		}
 	}
+}
+
+func (d *names) noteConstants(x *ast.GenDecl) {
+	number := false
+	for _, spec := range x.Specs {
+		v := spec.(*ast.ValueSpec)
+		if len(v.Values) == 1 { // a line without a value repeats the one above it
+			number = d.isWhole(v.Values[0])
+		}
+		if number {
+			d.constants = append(d.constants, v.Names[0].Name)
+		}
+	}
+}
+
+// isWhole reports whether a value is made of whole numbers, iota and constants of such.
+func (d *names) isWhole(value ast.Expr) bool {
+	switch x := value.(type) {
+	case *ast.BasicLit:
+		return x.Kind == token.INT
+	case *ast.Ident:
+		return x.Name == "iota" || slices.Contains(d.constants, x.Name)
+	case *ast.BinaryExpr:
+		return d.isWhole(x.X) && d.isWhole(x.Y)
+	}
+	return false
+}
+
+// isBehind reports whether a value is iota behind a constant.
+func (d *names) isBehind(x *ast.BinaryExpr) bool {
+	of, ok := x.X.(*ast.Ident)
+	by, also := x.Y.(*ast.Ident)
+	return ok && also && x.Op == token.ADD && slices.Contains(d.constants, of.Name) && by.Name == "iota"
 }
 
 func (d *names) fromStructs(t ast.Expr) bool {
@@ -193,6 +232,9 @@ func (d *names) way(n ast.Node, called bool) string {
 	case *ast.LabeledStmt:
 		return "label"
 	case *ast.BinaryExpr:
+		if d.isBehind(x) {
+			return "iota behind a constant"
+		}
 		if (x.Op == token.EQL || x.Op == token.NEQ) && d.makesStruct(x.X) && d.makesStruct(x.Y) {
 			return "structs compared"
 		}
@@ -202,6 +244,8 @@ func (d *names) way(n ast.Node, called bool) string {
 		}
 		if key, ok := x.Key.(*ast.Ident); ok && key.Name == "string" {
 			return "map from names"
+		} else if ok && key.Name == "int" {
+			return "map from numbers"
 		}
 	case *ast.AssignStmt:
 		if callsItself(x) {
@@ -245,6 +289,9 @@ func (d *names) selected(x *ast.SelectorExpr, called bool) string {
 }
 
 func (d *names) ranged(over ast.Expr) string {
+	if d.isWhole(over) {
+		return "range over an integer"
+	}
 	c, ok := over.(*ast.CallExpr)
 	if !ok {
 		return ""
