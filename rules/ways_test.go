@@ -20,6 +20,7 @@ func TestWays(t *testing.T) {
 		{"gun", []string{"range over a value", "label", "closure", "structs compared"}},
 		{"rate", []string{"range over a value", "closure that calls itself", "generic function", "map from names"}},
 		{"flag", []string{"iota behind a constant", "range over a value", "range over an integer", "map from numbers", "closure", "closure that calls itself"}},
+		{"night", []string{"map from numbers", "map from structs", "structs compared", "range over two values", "closure", "method value"}},
 	} {
 		found := waysOf(t, c.layer)
 		for _, way := range c.ways {
