@@ -21,6 +21,7 @@ func TestWays(t *testing.T) {
 		{"rate", []string{"range over a value", "closure that calls itself", "generic function", "map from names"}},
 		{"flag", []string{"iota behind a constant", "range over a value", "range over an integer", "map from numbers", "closure", "closure that calls itself"}},
 		{"night", []string{"map from numbers", "map from structs", "structs compared", "range over two values", "closure", "method value"}},
+		{"ledger", []string{"map from structs", "structs compared", "range over two values", "range over a map", "closure", "function handed on", "variadic"}},
 	} {
 		found := waysOf(t, c.layer)
 		for _, way := range c.ways {
@@ -34,6 +35,7 @@ func TestWays(t *testing.T) {
 // names are what a package declares, as far as ways are told by it.
 type names struct {
 	structs, arrays, methods, maps []string
+	mapTypes                       []string          // those from structs; maps are what has such a type
 	constants                      []string          // of the package level, whole numbers
 	makers                         []string          // functions that return a struct alone
 	iterators                      map[string]string // with the type of iterator that they return
@@ -81,6 +83,9 @@ func (d *names) note(n ast.Node) {
 		}
 		if a, ok := x.Type.(*ast.ArrayType); ok && a.Len != nil {
 			d.arrays = append(d.arrays, x.Name.Name)
+		}
+		if d.fromStructs(x.Type) {
+			d.mapTypes = append(d.mapTypes, x.Name.Name)
 		}
 	case *ast.Field:
 		if d.fromStructs(x.Type) && len(x.Names) > 0 {
@@ -141,12 +146,26 @@ func (d *names) isBehind(x *ast.BinaryExpr) bool {
 	return ok && also && x.Op == token.ADD && slices.Contains(d.constants, of.Name) && by.Name == "iota"
 }
 
+// fromStructs reports whether a type is a map from structs.
 func (d *names) fromStructs(t ast.Expr) bool {
-	m, ok := t.(*ast.MapType)
-	if !ok {
-		return false
+	switch x := t.(type) {
+	case *ast.MapType:
+		return d.isStruct(x.Key)
+	case *ast.Ident:
+		return slices.Contains(d.mapTypes, x.Name)
 	}
-	return d.isStruct(m.Key)
+	return false
+}
+
+// isMap reports whether a value is a map from structs.
+func (d *names) isMap(value ast.Expr) bool {
+	switch x := value.(type) {
+	case *ast.Ident:
+		return slices.Contains(d.maps, x.Name)
+	case *ast.SelectorExpr:
+		return slices.Contains(d.maps, x.Sel.Name)
+	}
+	return false
 }
 
 // isStruct reports whether a type is a struct of the package's own or of package api.
@@ -253,7 +272,7 @@ func (d *names) way(n ast.Node, called bool) string {
 			return "closure that calls itself"
 		}
 	case *ast.IndexExpr: // a map holds its keys against each other
-		if s, ok := x.X.(*ast.SelectorExpr); ok && slices.Contains(d.maps, s.Sel.Name) {
+		if d.isMap(x.X) {
 			return "structs compared"
 		}
 	case *ast.Ellipsis:
@@ -263,6 +282,9 @@ func (d *names) way(n ast.Node, called bool) string {
 	case *ast.FuncDecl:
 		if x.Type.TypeParams != nil {
 			return "generic function"
+		}
+		if takesFunction(x) {
+			return "function handed on"
 		}
 	case *ast.StructType:
 		for _, f := range x.Fields.List {
@@ -274,6 +296,13 @@ func (d *names) way(n ast.Node, called bool) string {
 		return d.ranged(x.X)
 	}
 	return ""
+}
+
+func takesFunction(x *ast.FuncDecl) bool {
+	return slices.ContainsFunc(x.Type.Params.List, func(f *ast.Field) bool {
+		_, ok := f.Type.(*ast.FuncType)
+		return ok
+	})
 }
 
 func (d *names) selected(x *ast.SelectorExpr, called bool) string {
@@ -292,6 +321,9 @@ func (d *names) selected(x *ast.SelectorExpr, called bool) string {
 func (d *names) ranged(over ast.Expr) string {
 	if d.isWhole(over) {
 		return "range over an integer"
+	}
+	if d.isMap(over) {
+		return "range over a map"
 	}
 	c, ok := over.(*ast.CallExpr)
 	if !ok {
