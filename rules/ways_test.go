@@ -7,7 +7,7 @@ import (
 	"testing"
 )
 
-// The language features that the document's section 'Ways' names for the layers that are built.
+// The language features that the document's section 'Ways' names for the layers.
 func TestWays(t *testing.T) {
 	for _, c := range []struct {
 		layer string
@@ -22,6 +22,7 @@ func TestWays(t *testing.T) {
 		{"flag", []string{"iota behind a constant", "range over a value", "range over an integer", "map from numbers", "closure", "closure that calls itself"}},
 		{"night", []string{"map from numbers", "map from structs", "structs compared", "range over two values", "closure", "method value"}},
 		{"ledger", []string{"map from structs", "structs compared", "range over two values", "range over a map", "closure", "function handed on", "variadic"}},
+		{"station", []string{"interface", "call through an interface", "map from names", "method expression", "embedding", "promoted field", "panic of a type", "deferred recover with a type switch"}},
 	} {
 		found := waysOf(t, c.layer)
 		for _, way := range c.ways {
@@ -39,11 +40,15 @@ type names struct {
 	constants                      []string          // of the package level, whole numbers
 	makers                         []string          // functions that return a struct alone
 	iterators                      map[string]string // with the type of iterator that they return
+	types                          []string
+	asked                          []string            // methods of interfaces
+	fields                         map[string][]string // of structs, by their names
+	embeds                         map[string]string   // structs, with a type that they embed
 }
 
 func waysOf(t *testing.T, layer string) []string {
 	t.Helper()
-	declared := names{iterators: map[string]string{}}
+	declared := names{iterators: map[string]string{}, fields: map[string][]string{}, embeds: map[string]string{}}
 	var files []*ast.File
 	for _, s := range sources(t) {
 		if s.folder == layer {
@@ -78,14 +83,22 @@ func waysOf(t *testing.T, layer string) []string {
 func (d *names) note(n ast.Node) {
 	switch x := n.(type) {
 	case *ast.TypeSpec:
-		if _, ok := x.Type.(*ast.StructType); ok {
+		d.types = append(d.types, x.Name.Name)
+		if s, ok := x.Type.(*ast.StructType); ok {
 			d.structs = append(d.structs, x.Name.Name)
+			d.noteFields(x.Name.Name, s)
 		}
 		if a, ok := x.Type.(*ast.ArrayType); ok && a.Len != nil {
 			d.arrays = append(d.arrays, x.Name.Name)
 		}
 		if d.fromStructs(x.Type) {
 			d.mapTypes = append(d.mapTypes, x.Name.Name)
+		}
+	case *ast.InterfaceType:
+		for _, f := range x.Methods.List {
+			for _, name := range f.Names {
+				d.asked = append(d.asked, name.Name)
+			}
 		}
 	case *ast.Field:
 		if d.fromStructs(x.Type) && len(x.Names) > 0 {
@@ -109,6 +122,17 @@ func (d *names) note(n ast.Node) {
 			if kind := iterator(r.Type); kind != "" {
 				d.iterators[x.Name.Name] = kind
 			}
+		}
+	}
+}
+
+func (d *names) noteFields(name string, s *ast.StructType) {
+	for _, f := range s.Fields.List {
+		for _, field := range f.Names {
+			d.fields[name] = append(d.fields[name], field.Name)
+		}
+		if of, ok := f.Type.(*ast.Ident); ok && len(f.Names) == 0 {
+			d.embeds[name] = of.Name
 		}
 	}
 }
@@ -286,11 +310,29 @@ func (d *names) way(n ast.Node, called bool) string {
 		if takesFunction(x) {
 			return "function handed on"
 		}
+		if d.promotes(x) {
+			return "promoted field"
+		}
 	case *ast.StructType:
 		for _, f := range x.Fields.List {
+			if len(f.Names) == 0 {
+				return "embedding"
+			}
 			if _, ok := f.Type.(*ast.FuncType); ok {
 				return "function field"
 			}
+		}
+	case *ast.InterfaceType:
+		if len(x.Methods.List) > 0 {
+			return "interface"
+		}
+	case *ast.CallExpr:
+		if d.panics(x) {
+			return "panic of a type"
+		}
+	case *ast.DeferStmt:
+		if recovers(x) {
+			return "deferred recover with a type switch"
 		}
 	case *ast.RangeStmt:
 		return d.ranged(x.X)
@@ -305,11 +347,79 @@ func takesFunction(x *ast.FuncDecl) bool {
 	})
 }
 
+// promotes reports whether a method uses a field that its receiver has from what it embeds.
+func (d *names) promotes(x *ast.FuncDecl) bool {
+	if x.Recv == nil || len(x.Recv.List[0].Names) == 0 {
+		return false
+	}
+	receiver := x.Recv.List[0]
+	promoted := d.fields[d.embeds[typeName(receiver.Type)]]
+	found := false
+	ast.Inspect(x.Body, func(n ast.Node) bool {
+		if s, ok := n.(*ast.SelectorExpr); ok {
+			of, ok := s.X.(*ast.Ident)
+			found = found || ok && of.Name == receiver.Names[0].Name && slices.Contains(promoted, s.Sel.Name)
+		}
+		return true
+	})
+	return found
+}
+
+// typeName returns the name of a type, or of what a pointer of its points to.
+func typeName(t ast.Expr) string {
+	switch x := t.(type) {
+	case *ast.ParenExpr:
+		return typeName(x.X)
+	case *ast.StarExpr:
+		return typeName(x.X)
+	case *ast.Ident:
+		return x.Name
+	}
+	return ""
+}
+
+// panics reports whether a call panics with a value of a type of the package's own.
+func (d *names) panics(x *ast.CallExpr) bool {
+	if f, ok := x.Fun.(*ast.Ident); !ok || f.Name != "panic" {
+		return false
+	}
+	switch v := x.Args[0].(type) {
+	case *ast.CallExpr:
+		return slices.Contains(d.types, typeName(v.Fun))
+	case *ast.CompositeLit:
+		return slices.Contains(d.types, typeName(v.Type))
+	}
+	return false
+}
+
+// recovers reports whether a deferred function literal switches by the type of what it recovers.
+func recovers(x *ast.DeferStmt) bool {
+	f, ok := x.Call.Fun.(*ast.FuncLit)
+	if !ok {
+		return false
+	}
+	found := false
+	ast.Inspect(f, func(n ast.Node) bool {
+		if s, ok := n.(*ast.TypeSwitchStmt); ok {
+			ast.Inspect(s.Assign, func(n ast.Node) bool {
+				of, ok := n.(*ast.Ident)
+				found = found || ok && of.Name == "recover"
+				return true
+			})
+		}
+		return true
+	})
+	return found
+}
+
 func (d *names) selected(x *ast.SelectorExpr, called bool) string {
+	if of, ok := x.X.(*ast.Ident); ok && called && slices.Contains(d.asked, x.Sel.Name) && !slices.Contains(d.types, of.Name) {
+		return "call through an interface"
+	}
 	if !slices.Contains(d.methods, x.Sel.Name) {
 		return ""
 	}
-	if of, ok := x.X.(*ast.Ident); ok && slices.Contains(d.structs, of.Name) {
+	if slices.Contains(d.structs, typeName(x.X)) {
 		return "method expression"
 	}
 	if !called {
